@@ -1,0 +1,64 @@
+"""What several tests share: plain floors, and the document's words said the slow way."""
+
+import itertools
+
+from wirefloor.floor import Floor
+
+MOST = 10 ** 12
+
+
+def spots_in(sizes):
+    return list(itertools.product(*[range(size) for size in sizes]))
+
+
+def prices_for(layers):
+    # All prices unlike, so that one taken for another is seen.
+    return [(10 + 100 * layer, 13 + 100 * layer) for layer in range(layers)]
+
+
+def vias_for(layers):
+    return [1007 + 1000 * layer for layer in range(layers - 1)]
+
+
+def plain_floor(sizes, rocks=None, tolls=None):
+    return Floor(sizes, prices_for(sizes[0]), vias_for(sizes[0]), rocks, tolls)
+
+
+def slow_price(prices, vias, rocks, tolls, one, two):
+    """The price of the step between two spots inside, or None: by the words of 1.4 alone."""
+    differing = [place for place in range(3) if one[place] != two[place]]
+    if len(differing) != 1 or abs(one[differing[0]] - two[differing[0]]) != 1:
+        return None
+    if one in rocks or two in rocks:
+        return None
+    bare = {
+        0: vias[min(one[0], two[0])] if differing[0] == 0 else None,
+        1: prices[one[0]][1],
+        2: prices[one[0]][0],
+    }[differing[0]]
+    return bare + tolls.get(one, 0) + tolls.get(two, 0)
+
+
+def steps_in(floor):
+    """All steps of a floor, each once."""
+    return [(one, two) for one in floor.open_spots() for two, _ in floor.steps(one) if one < two]
+
+
+def subsets(steps):
+    for many in range(len(steps) + 1):
+        for chosen in itertools.combinations(steps, many):
+            yield list(chosen)
+
+
+def line(row, first, last, layer=0):
+    """The steps along a row from one column to another."""
+    return [((layer, row, column), (layer, row, column + 1)) for column in range(first, last)]
+
+
+def refused_by(call, *arguments, **named):
+    """The error with which a call is refused, or None."""
+    try:
+        call(*arguments, **named)
+    except Exception as error:
+        return error
+    return None

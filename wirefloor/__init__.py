@@ -1,0 +1,1 @@
+"""Wirefloor: wires laid on a floor of several layers."""
