@@ -62,3 +62,31 @@ def refused_by(call, *arguments, **named):
     except Exception as error:
         return error
     return None
+
+
+def slow_apart(one, two):
+    if one[0] != two[0]:
+        return None
+    return max(abs(one[1] - two[1]), abs(one[2] - two[2]))
+
+
+def slow_fits(sizes, rocks, half, spot):
+    """By the words of 2.3: every spot of the square is looked at, inside or not."""
+    layer, row, column = spot
+    reach = range(-half, half + 1)
+    whole = [(layer, row + down, column + right) for down in reach for right in reach]
+    return all(near in spots_in(sizes) and near not in rocks for near in whole)
+
+
+def slow_clash(thing, spot, other, place):
+    return spot[0] == place[0] and slow_apart(spot, place) <= thing.half + other.half + max(thing.room, other.room)
+
+
+def slow_free(floor, thing, others):
+    """The spots that are free for a thing beside others, by the words of 2.5."""
+    free = []
+    for spot in spots_in(floor.sizes):
+        clashes = [place for other, spots in others for place in spots if slow_clash(thing, spot, other, place)]
+        if slow_fits(floor.sizes, floor.rocks_told(), thing.half, spot) and clashes == []:
+            free.append(spot)
+    return dict((spot, True) for spot in free)

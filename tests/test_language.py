@@ -78,6 +78,32 @@ def names_bound():
             yield where, node.name
 
 
+def linked(kind):
+    """Nodes of a kind, each with the one above it."""
+    for where, above in nodes(ast.AST):
+        for node in ast.iter_child_nodes(above):
+            if isinstance(node, kind):
+                yield f"{where} {ast.unparse(node)}", node, above
+
+
+def called(node):
+    if isinstance(node.func, ast.Attribute):
+        return node.func.attr
+    return node.func.id if isinstance(node.func, ast.Name) else None
+
+
+def top_names(tree, imports=True):
+    bound = []
+    for node in tree.body:
+        if isinstance(node, (ast.FunctionDef, ast.ClassDef)):
+            bound.append(node.name)
+        elif isinstance(node, ast.Assign):
+            bound.append(node.targets[0].id)
+        elif isinstance(node, ast.ImportFrom) and imports:
+            bound.extend(one.name for one in node.names)
+    return bound
+
+
 class Files(unittest.TestCase):
     def test_names_and_signs(self):
         self.assertIn(PACKAGE / "__init__.py", files())
@@ -144,7 +170,95 @@ class Forms(unittest.TestCase):
                     self.assertTrue(isinstance(side, ast.Constant) and side.value in (None, True, False), where)
 
 
+    def test_texts_hold_plain_names(self):
+        for where, node in nodes(ast.FormattedValue):
+            self.assertIsInstance(node.value, ast.Name, where)
+            self.assertIsNone(node.format_spec, where)
+            self.assertIn(node.conversion, (-1, ord("r")), where)
+
+    def test_walked_at_once(self):
+        for where, node, above in linked(ast.Call):
+            name = called(node)
+            if name in ("zip", "enumerate", "reversed", "range", "items", "keys", "values"):
+                walked = isinstance(above, (ast.For, ast.comprehension)) and above.iter is node
+                handed = isinstance(above, ast.Call) and above.args[0] is node and called(above) in (
+                    "list", "tuple", "dict", "sorted", "sum", "any", "all", "enumerate", "zip", "min", "max")
+                self.assertTrue(walked or handed, where)
+
+    def test_sets_are_asked_on_the_spot(self):
+        for where, node, above in linked(ast.Call):
+            if called(node) in ("set", "frozenset"):
+                asked = isinstance(above, (ast.Compare, ast.BinOp))
+                handed = isinstance(above, ast.Call) and called(above) in ("sorted", "len")
+                self.assertTrue(asked or handed and above.keywords == [], where)
+        for where, node in nodes(ast.Set):
+            self.fail(where)
+
+    def test_what_is_walked_is_not_changed(self):
+        changes = "append clear extend insert pop remove reverse setdefault update add".split()
+        for where, loop in nodes(ast.For):
+            walked = {ast.unparse(loop.iter)}
+            if isinstance(loop.iter, ast.Call):
+                walked |= {ast.unparse(one) for one in loop.iter.args}
+                if isinstance(loop.iter.func, ast.Attribute):
+                    walked.add(ast.unparse(loop.iter.func.value))
+                if called(loop.iter) in ("list", "sorted"):
+                    continue
+            for node in (one for part in loop.body for one in ast.walk(part)):
+                if isinstance(node, ast.Call) and isinstance(node.func, ast.Attribute) and node.func.attr in changes:
+                    self.assertNotIn(ast.unparse(node.func.value), walked, where)
+                if isinstance(node, ast.Subscript) and isinstance(node.ctx, ast.Store):
+                    self.assertNotIn(ast.unparse(node.value), walked, where)
+
+    def test_targets_are_plain(self):
+        for where, node in nodes((ast.Assign, ast.For, ast.comprehension)):
+            target = node.targets[0] if isinstance(node, ast.Assign) else node.target
+            for part in target.elts if isinstance(target, ast.Tuple) else []:
+                self.assertIsInstance(part, ast.Name, where)
+
+    def test_keywords_at_pythons_own(self):
+        allowed = {"sorted": {"key", "reverse"}, "min": {"key", "default"}, "max": {"key", "default"},
+                   "sum": {"start"}, "enumerate": {"start"}, "zip": {"strict"}}
+        for where, node in nodes(ast.Call):
+            if called(node) in OWN_NAMES | METHODS:
+                self.assertLessEqual({one.arg for one in node.keywords}, allowed.get(called(node), set()), where)
+
+    def test_powers_have_a_written_exponent(self):
+        for where, node in nodes(ast.BinOp):
+            if isinstance(node.op, ast.Pow):
+                self.assertIsInstance(node.right, ast.Constant, where)
+
+    def test_errors_are_taken_by_name(self):
+        for where, node in nodes(ast.ExceptHandler):
+            self.assertIsInstance(node.type, ast.Name, where)
+            self.assertNotIn(node.type.id, ("Exception", "TypeError", "ValueError", "LookupError"), where)
+
+
 class Names(unittest.TestCase):
+    def test_each_is_bound_once_at_the_top(self):
+        for where, tree in trees():
+            bound = top_names(tree)
+            self.assertEqual(len(set(bound)), len(bound), where)
+
+    def test_no_local_is_called_like_a_name_of_the_top(self):
+        for where, tree in trees():
+            top = top_names(tree)
+            for function in [node for node in ast.walk(tree) if isinstance(node, (ast.FunctionDef, ast.Lambda))]:
+                for node in ast.walk(function):
+                    if isinstance(node, ast.Name) and isinstance(node.ctx, ast.Store):
+                        self.assertNotIn(node.id, top, where)
+                    elif isinstance(node, ast.arg):
+                        self.assertNotIn(node.arg, top, where)
+
+    def test_imports_come_from_the_file_that_defines_them_and_are_used(self):
+        defined = dict((name[:-3], top_names(tree, imports=False)) for name, tree in trees())
+        for where, tree in trees():
+            used = {node.id for node in ast.walk(tree) if isinstance(node, ast.Name)}
+            for node in [node for node in tree.body if isinstance(node, ast.ImportFrom)]:
+                for one in node.names:
+                    self.assertIn(one.name, defined[node.module.split(".")[-1]], where)
+                    self.assertIn(one.name, used, where)
+
     def test_names_that_are_bound(self):
         for where, name in names_bound():
             self.assertNotIn(name, FORBIDDEN, where)

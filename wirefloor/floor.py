@@ -118,6 +118,9 @@ class Floor:
     def way_price(self, way):
         return sum([self.step_price(one, two) for one, two in zip(way, way[1:])])
 
+    def wiring_price(self, wiring):
+        return sum([self.step_price(one, two) for one, two in wiring])
+
     def open_spots(self):
         layers, rows, columns = self.sizes
         spots = [spot_of(self.sizes, number) for number in range(layers * rows * columns)]
