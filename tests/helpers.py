@@ -2,7 +2,9 @@
 
 import itertools
 
+from wirefloor.board import Board
 from wirefloor.floor import Floor
+from wirefloor.things import Bundle, Net
 
 MOST = 10 ** 12
 
@@ -90,3 +92,57 @@ def slow_free(floor, thing, others):
         if slow_fits(floor.sizes, floor.rocks_told(), thing.half, spot) and clashes == []:
             free.append(spot)
     return dict((spot, True) for spot in free)
+
+
+def random_floor(chance, sizes, rocks=0.1, tolls=0.1, most=20):
+    """A floor with prices from 1 to most, and rocks and tolls by chance."""
+    prices = [(chance.randint(1, most), chance.randint(1, most)) for _ in range(sizes[0])]
+    vias = [chance.randint(1, most) for _ in range(sizes[0] - 1)]
+    spots = spots_in(sizes)
+    stones = [spot for spot in spots if chance.random() < rocks]
+    told = dict((spot, chance.randint(0, most)) for spot in spots if chance.random() < tolls)
+    return Floor(sizes, prices, vias, stones, told)
+
+
+def random_thing(chance, floor, name, nets=0.6):
+    """A net or a bundle with its ends somewhere on a floor that has spots enough."""
+    spots = chance.sample(floor.open_spots(), min(len(floor.open_spots()), 9))
+    room = chance.choice([0, 0, 0, 1, 1, 2, 3])
+    if chance.random() < nets:
+        half = chance.choice([0, 0, 0, 1, 2])
+        return Net(name, spots[:chance.randint(2, min(6, len(spots)))], half, room)
+    many = chance.randint(1, min(3, len(spots) // 2))
+    return Bundle(name, spots[:many], spots[many:many + chance.randint(many, min(6, len(spots) - many))], room)
+
+
+def random_board(chance, floor, many, nets=0.6):
+    """A board of at most so many things, those left out that it would be refused for."""
+    things = []
+    for place in range(many):
+        thing = random_thing(chance, floor, f"t{many - place}", nets)
+        if refused_by(Board, floor, things + [thing]) is None:
+            things.append(thing)
+    return Board(floor, things)
+
+
+def steps_over(floor, free):
+    """All steps between free spots that are no rocks, each both ways: (one, two, price)."""
+    told = []
+    for one in free:
+        if not floor.is_rock(one):
+            told += [(one, two, price) for two, price in floor.steps(one) if two in free]
+    return told
+
+
+def slow_far_over(floor, free, starts):
+    """How far each spot is from the starts: prices brought down until nothing changes."""
+    far = dict((start, 0) for start in starts)
+    steps = steps_over(floor, free)
+    changed = True
+    while changed:
+        changed = False
+        for one, two, price in steps:
+            if one in far and (two not in far or far[one] + price < far[two]):
+                far[two] = far[one] + price
+                changed = True
+    return far
