@@ -146,3 +146,53 @@ def slow_far_over(floor, free, starts):
                 far[two] = far[one] + price
                 changed = True
     return far
+
+
+def free_of(spots):
+    return dict((spot, True) for spot in spots)
+
+
+def ways_from(floor, free, start, goals):
+    """All ways from a start to a goal that stop at the first goal, for few free spots."""
+    told, waiting = [], [[start]]
+    while waiting:
+        way = waiting.pop()
+        if way[-1] in goals:
+            told.append(way)
+            continue
+        waiting += [way + [spot] for spot, _ in floor.steps(way[-1]) if spot in free and spot not in way]
+    return told
+
+
+def slow_least(floor, free, starts, goals, many):
+    """The least price of so many ways that share no spot, each from a start to a goal, or None."""
+    def least(left, used, still):
+        if still == 0:
+            return 0
+        if not left:
+            return None
+        found = [least(left[1:], used, still)]
+        for way in ways[left[0]]:
+            if not used & set(way):
+                rest = least(left[1:], used | set(way), still - 1)
+                found.append(None if rest is None else rest + floor.way_price(way))
+        return min([price for price in found if price is not None], default=None)
+
+    ways = dict((start, ways_from(floor, free, start, goals)) for start in starts)
+    return least(list(starts), set(), many)
+
+
+def tight_board(chance):
+    """A small board of many things with few ends each, so that they come in each other's way."""
+    sizes = (chance.choice([1, 2, 2]), chance.randint(3, 7), chance.randint(4, 8))
+    floor = random_floor(chance, sizes, 0.05, 0.1, chance.choice([3, 20]))
+    things = []
+    for place in range(10):
+        spots, room = chance.sample(floor.open_spots(), 4), chance.choice([0, 0, 0, 1])
+        if chance.random() < 0.75:
+            thing = Net(f"t{10 - place}", spots[:chance.choice([2, 2, 2, 3])], 0, room)
+        else:
+            thing = Bundle(f"t{10 - place}", spots[:chance.choice([1, 2])], spots[2:], room)
+        if refused_by(Board, floor, things + [thing]) is None:
+            things.append(thing)
+    return Board(floor, things)

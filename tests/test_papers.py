@@ -3,13 +3,9 @@
 import random
 import unittest
 
-from tests.helpers import plain_floor, random_floor, random_thing, slow_far_over, spots_in, steps_over
+from tests.helpers import free_of, plain_floor, random_floor, random_thing, slow_far_over, spots_in, steps_over
 from wirefloor.papers import Paper, ShorePaper
 from wirefloor.things import Bundle, Net
-
-
-def free_of(spots):
-    return dict((spot, True) for spot in spots)
 
 
 def slow_holds(spots, floor, free, thing):

@@ -3,15 +3,11 @@
 import random
 import unittest
 
-from tests.helpers import MOST, plain_floor, random_floor, slow_far_over, spots_in, steps_over
+from tests.helpers import MOST, free_of, plain_floor, random_floor, slow_far_over, spots_in, steps_over
 from wirefloor.floor import Floor
 from wirefloor.papers import Paper, ShorePaper
 from wirefloor.things import Bundle, Net
 from wirefloor.trees import TreePaper, joined
-
-
-def free_of(spots):
-    return dict((spot, True) for spot in spots)
 
 
 def stands(hill, spot):

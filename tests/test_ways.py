@@ -3,13 +3,9 @@
 import random
 import unittest
 
-from tests.helpers import MOST, plain_floor, random_floor, slow_far_over, spots_in, steps_over
+from tests.helpers import MOST, free_of, plain_floor, random_floor, slow_far_over, spots_in, steps_over
 from wirefloor.floor import Floor
 from wirefloor.ways import arcs_in, cheapest, climbed, height
-
-
-def free_of(spots):
-    return dict((spot, True) for spot in spots)
 
 
 class Arcs(unittest.TestCase):

@@ -19,6 +19,12 @@ def shut_in(floor, free, spots, rim):
     return True
 
 
+def wires_lie(floor, free, thing, wires, price):
+    if not thing.sound(floor, wires) or price != floor.wiring_price(wires):
+        return False
+    return all([one in free and two in free for one, two in wires])
+
+
 def how_many(ends, spots):
     return len([end for end in ends if end in spots])
 

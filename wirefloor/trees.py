@@ -1,7 +1,7 @@
 """Trees: how a net is joined, and the paper that shows that it could hardly be cheaper."""
 
 from wirefloor.hills import hill_round, least_far
-from wirefloor.papers import Paper, ShorePaper, all_clear
+from wirefloor.papers import Paper, ShorePaper, all_clear, wires_lie
 from wirefloor.parts import Parts, taken
 from wirefloor.spread import spread, way_back
 from wirefloor.things import Net
@@ -67,11 +67,7 @@ class TreePaper(Paper):
         return True
 
     def holds(self, floor, free, thing):
-        if not isinstance(thing, Net) or not thing.sound(floor, self.wires):
-            return False
-        if not all([one in free and two in free for one, two in self.wires]):
-            return False
-        if self.price != floor.wiring_price(self.wires):
+        if not isinstance(thing, Net) or not wires_lie(floor, free, thing, self.wires, self.price):
             return False
         if not all([hill_holds(floor, free, thing, hill) for hill in self.hills]):
             return False
