@@ -1,12 +1,32 @@
 """What several tests share: plain floors, and the document's words said the slow way."""
 
 import itertools
+import re
 
+from wirefloor.answers import Answer
 from wirefloor.board import Board
+from wirefloor.bundles import BundlePaper, CutPaper
 from wirefloor.floor import Floor
+from wirefloor.papers import ShorePaper
 from wirefloor.things import Bundle, Net
+from wirefloor.trees import TreePaper
 
 MOST = 10 ** 12
+MOST_WHOLE = 10 ** 18 - 1
+NAMES = ["a", "ab", "abc", "a0", "b", "b1", "b10", "b2", "zzzzzzzzzzzz", "to", "laid", "paper"]
+
+NAME = "[a-z][a-z0-9]{0,11}"
+NUMBER = "(?:0|[1-9][0-9]{0,17})"
+WHOLE = "(?:0|-?[1-9][0-9]{0,17})"
+SPOT = rf"{NUMBER}\.{NUMBER}\.{NUMBER}"
+STEPS = rf"(?:\nstep {SPOT} {SPOT})*"
+TREE = rf"tree {WHOLE}{STEPS}(?:\nhill {WHOLE}(?:\nat {SPOT} {WHOLE})*)*"
+BUNDLE = rf"bundle {WHOLE} {WHOLE}{STEPS}(?:\nat {SPOT} {WHOLE} {WHOLE})*"
+SHORE = rf"shore(?:\nspot {SPOT})*"
+CUT = rf"cut(?:\ncut {SPOT})*(?:\nspot {SPOT})*"
+PAPER = f"(?:{TREE}|{BUNDLE}|{SHORE}|{CUT})"
+TEXT = re.compile(
+    rf"answer (?:rested|open)(?:\nlaid {NAME}{STEPS})*(?:\npaper {NAME} {PAPER})*(?:\nnever {NAME} {PAPER})*")
 
 
 def spots_in(sizes):
@@ -196,3 +216,93 @@ def tight_board(chance):
         if refused_by(Board, floor, things + [thing]) is None:
             things.append(thing)
     return Board(floor, things)
+
+
+def rising(values):
+    return all(one < two for one, two in zip(values, values[1:]))
+
+
+def is_answer_text(text):
+    if not TEXT.fullmatch(text):
+        return False
+    for part in ("laid", "paper", "never"):
+        if not rising(re.findall(rf"^{part} ({NAME})", text, re.MULTILINE)):
+            return False
+    # Rows with heights in a row belong to one hill, or to one bundle.
+    for rows in re.findall(rf"(?:\nat [^\n]*)+", text):
+        spots = [tuple(int(part) for part in row.split(" ")[1].split(".")) for row in rows.strip("\n").split("\n")]
+        if not rising(spots):
+            return False
+    return True
+
+
+def bad_row(text):
+    """The number of the row for which a text is refused, or None."""
+    rows = text.split("\n")
+    for many in range(1, len(rows) + 1):
+        if not is_answer_text("\n".join(rows[:many])):
+            return many
+    return None
+
+
+def some_spot(chance):
+    return tuple(chance.choice([0, 1, 2, 9, 10, 99, MOST_WHOLE]) for _ in range(3))
+
+
+def some_whole(chance):
+    return chance.choice([0, 1, -1, 7, -12, 10 ** 17, MOST_WHOLE, -MOST_WHOLE, chance.randint(-99, 99)])
+
+
+def some_steps(chance):
+    return [(some_spot(chance), some_spot(chance)) for _ in range(chance.choice([0, 0, 1, 2, 4]))]
+
+
+def some_spots(chance):
+    return [some_spot(chance) for _ in range(chance.choice([0, 0, 1, 2, 5]))]
+
+
+def some_paper(chance):
+    kind = chance.choice(["tree", "bundle", "shore", "cut"])
+    if kind == "tree":
+        hills = [(some_whole(chance), dict((spot, some_whole(chance)) for spot in some_spots(chance)))
+                 for _ in range(chance.randint(0, 3))]
+        return TreePaper(some_steps(chance), some_whole(chance), hills)
+    if kind == "bundle":
+        heights = dict((spot, (some_whole(chance), some_whole(chance))) for spot in some_spots(chance))
+        return BundlePaper(some_steps(chance), some_whole(chance), some_whole(chance), heights)
+    return ShorePaper(some_spots(chance)) if kind == "shore" else CutPaper(some_spots(chance), some_spots(chance))
+
+
+def some_names(chance):
+    return chance.sample(NAMES, chance.randint(0, 4))
+
+
+def some_answer(chance):
+    return Answer(chance.choice([True, False]), dict((name, some_steps(chance)) for name in some_names(chance)),
+                  dict((name, some_paper(chance)) for name in some_names(chance)),
+                  dict((name, some_paper(chance)) for name in some_names(chance)))
+
+
+def paper_told(paper):
+    """What a paper keeps, with its kind."""
+    if isinstance(paper, TreePaper):
+        return ("tree", paper.wires, paper.price, paper.hills)
+    if isinstance(paper, BundlePaper):
+        return ("bundle", paper.wires, paper.price, paper.depth, paper.heights)
+    if isinstance(paper, CutPaper):
+        return ("cut", paper.cut, paper.spots)
+    return ("shore", paper.spots)
+
+
+def answer_told(answer):
+    return (answer.rested, answer.layout, dict((name, paper_told(paper)) for name, paper in answer.papers.items()),
+            dict((name, paper_told(paper)) for name, paper in answer.nevers.items()))
+
+
+def slow_others(board, layout, name):
+    others = []
+    for thing in board.things():
+        if thing.name != name:
+            steps = layout.get(thing.name, [])
+            others.append((thing, sorted(set(thing.ends()) | {spot for step in steps for spot in step})))
+    return others

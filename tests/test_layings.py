@@ -3,7 +3,8 @@
 import random
 import unittest
 
-from tests.helpers import line, plain_floor, random_board, random_floor, slow_clash, slow_free, spots_in, tight_board
+from tests.helpers import (line, paper_told, plain_floor, random_board, random_floor, slow_clash, slow_free, slow_others,
+                           tight_board)
 from wirefloor.board import Board
 from wirefloor.bundles import BundlePaper, CutPaper, bundled
 from wirefloor.floor import Floor
@@ -13,26 +14,6 @@ from wirefloor.papers import ShorePaper
 from wirefloor.settle import settle
 from wirefloor.things import Bundle, Net
 from wirefloor.trees import TreePaper, joined
-
-
-def told_of(paper):
-    """What a paper keeps, so that two can be compared."""
-    if isinstance(paper, TreePaper):
-        return ("tree", paper.wires, paper.price, paper.hills)
-    if isinstance(paper, BundlePaper):
-        return ("bundle", paper.wires, paper.price, paper.depth, paper.heights)
-    if isinstance(paper, CutPaper):
-        return ("cut", paper.cut, paper.spots)
-    return ("shore", paper.spots)
-
-
-def slow_others(board, layout, name):
-    others = []
-    for thing in board.things():
-        if thing.name != name:
-            steps = layout.get(thing.name, [])
-            others.append((thing, sorted(set(thing.ends()) | {spot for step in steps for spot in step})))
-    return others
 
 
 def slow_paper(board, layout, name):
@@ -99,12 +80,12 @@ class Papers(unittest.TestCase):
         floor = Floor((1, 1, 5), [(1, 1)], [])
         board = Board(floor, [Net("a", [(0, 0, 0), (0, 0, 4)]), Net("c", [(0, 0, 1), (0, 0, 2)])])
         for paper in (paper_alone(board, "a"), paper_of(board, {}, "a")):
-            self.assertEqual(told_of(paper), ("shore", ((0, 0, 0),)))
+            self.assertEqual(paper_told(paper), ("shore", ((0, 0, 0),)))
 
     def test_by_the_words(self):
         chance = random.Random(26)
         kinds = set()
-        for _ in range(60):
+        for _ in range(30):
             board = tight_board(chance) if chance.random() < 0.5 else random_board(chance, random_floor(chance, (2, 6, 6)), 5)
             layout = settle(board, 0).layout
             for thing in board.things():
@@ -113,12 +94,12 @@ class Papers(unittest.TestCase):
                     kept = dict((name, list(wiring)) for name, wiring in here.items())
                     paper = paper_of(board=board, layout=here, name=thing.name)
                     self.assertEqual(here, kept)
-                    self.assertEqual(told_of(paper), told_of(slow_paper(board, here, thing.name)))
+                    self.assertEqual(paper_told(paper), paper_told(slow_paper(board, here, thing.name)))
                     free = slow_free(board.floor, thing, slow_others(board, here, thing.name))
                     self.assertTrue(paper.holds(board.floor, free, thing))
                     kinds.add(paper.__class__)
                 alone = paper_alone(board, thing.name)
-                self.assertEqual(told_of(alone), told_of(slow_paper(board, {}, thing.name)))
+                self.assertEqual(paper_told(alone), paper_told(slow_paper(board, {}, thing.name)))
         self.assertEqual(kinds, {TreePaper, BundlePaper, ShorePaper, CutPaper})
 
 
@@ -136,7 +117,7 @@ class Tries(unittest.TestCase):
             self.assertTrue(legal(board, {**layout, name: told.wiring, **dict(told.again)}))
         else:
             self.assertFalse(told.paper.is_laid())
-            self.assertEqual(told_of(told.paper), told_of(paper))
+            self.assertEqual(paper_told(told.paper), paper_told(paper))
             self.assertEqual([one for one, _ in told.again] + [failed], told.torn[:len(told.again) + 1])
         return told
 
@@ -177,7 +158,7 @@ class Tries(unittest.TestCase):
     def test_by_the_words(self):
         chance = random.Random(27)
         worked, failed, later = 0, 0, 0
-        for _ in range(250):
+        for _ in range(180):
             board = tight_board(chance)
             layout, names = {}, [thing.name for thing in board.things()]
             chance.shuffle(names)

@@ -4,8 +4,7 @@ import inspect
 import random
 import unittest
 
-from tests.helpers import line, random_board, random_floor, slow_free, tight_board
-from tests.test_layings import slow_others, told_of
+from tests.helpers import line, paper_told, random_board, random_floor, slow_free, slow_others, tight_board
 from wirefloor.board import Board
 from wirefloor.bundles import BundlePaper, CutPaper
 from wirefloor.deeds import Better, Lay, Swap
@@ -108,14 +107,14 @@ class Settling(unittest.TestCase):
         self.assertEqual(thing.name in settled.tries, alone.is_laid())
         if thing.name in settled.nevers:
             never = settled.nevers[thing.name]
-            self.assertEqual(told_of(never), told_of(alone))
+            self.assertEqual(paper_told(never), paper_told(alone))
             self.assertTrue(never.holds(board.floor, slow_free(board.floor, thing, slow_others(board, {}, thing.name)), thing))
         else:
             kept, attempt = settled.tries[thing.name], tried(board, settled.layout, thing.name)
             self.assertFalse(kept.worked())
             self.assertEqual((kept.name, kept.wiring, kept.torn, kept.again, kept.failed),
                              (attempt.name, attempt.wiring, attempt.torn, attempt.again, attempt.failed))
-            self.assertEqual(told_of(kept.paper), told_of(attempt.paper))
+            self.assertEqual(paper_told(kept.paper), paper_told(attempt.paper))
 
     def told(self, board, most=None):
         settled = settle(board) if most is None else settle(board, most)
@@ -229,8 +228,8 @@ class Settling(unittest.TestCase):
         three = settle(board)
         self.assertEqual(two.layout, three.layout)
         self.assertEqual([deed.laid_anew() for deed in two.deeds], [deed.laid_anew() for deed in three.deeds])
-        self.assertEqual([told_of(two.papers[name]) for name in sorted(two.papers)],
-                         [told_of(three.papers[name]) for name in sorted(three.papers)])
+        self.assertEqual([paper_told(two.papers[name]) for name in sorted(two.papers)],
+                         [paper_told(three.papers[name]) for name in sorted(three.papers)])
 
 
 class Kept(unittest.TestCase):
