@@ -28,6 +28,21 @@ PAPER = f"(?:{TREE}|{BUNDLE}|{SHORE}|{CUT})"
 TEXT = re.compile(
     rf"answer (?:rested|open)(?:\nlaid {NAME}{STEPS})*(?:\npaper {NAME} {PAPER})*(?:\nnever {NAME} {PAPER})*")
 
+# A swap leaves two things here that can be bettered.
+TWO_BETTERS = """
+floor 2 7 6
+layer 2 1
+layer 3 1
+via 3
+rock 0.2.3
+toll 2 0.0.2
+bundle t0 0 1.1.5 0.2.4 to 0.1.1 0.4.4
+bundle t2 0 1.0.1 to 0.2.2 1.4.2
+bundle t4 0 1.6.3 1.2.1 to 0.2.1 0.4.0
+net t5 0 0 0.1.3 1.5.3 1.4.3
+net t9 0 0 1.3.3 1.0.2
+"""
+
 
 def spots_in(sizes):
     return list(itertools.product(*[range(size) for size in sizes]))

@@ -80,7 +80,8 @@ class Reading(unittest.TestCase):
         nevers = {"a": CutPaper([], [B]), "b": ShorePaper([]), "c": BundlePaper([], 0, 0, {B: (0, 0)}),
                   "d": TreePaper([], 0, [(0, {})])}
         self.assertEqual(answer_told(answer), answer_told(Answer(False, answer.layout, want, nevers)))
-        self.assertEqual([paper.__class__ for paper in answer.papers.values()], [TreePaper, BundlePaper, ShorePaper, CutPaper])
+        self.assertEqual([paper.__class__ for paper in answer.papers.values()],
+                         [TreePaper, BundlePaper, ShorePaper, CutPaper])
 
     def test_the_least(self):
         self.assertEqual(answer_told(read_answer("answer rested")), (True, {}, {}, {}))
@@ -101,8 +102,10 @@ class Reading(unittest.TestCase):
             self.assertEqual(self.told(text), 1)
 
     def test_a_wrong_first_row(self):
-        for row in ("answer", "rested", "answer Rested", "answer rested ", " answer rested", "answer  rested", "answer closed",
-                    "answers open", "answer open open", "answer rested open", "open", "laid a", "paper a shore", "answer\trested",
+        for row in ("answer", "rested", "answer Rested", "answer rested ", " answer rested", "answer  rested",
+                    "answer closed",
+                    "answers open", "answer open open", "answer rested open", "open", "laid a", "paper a shore",
+                    "answer\trested",
                     "ANSWER open", "answer open;", "; x"):
             self.assertEqual(self.told(row), 1, row)
             self.assertEqual(self.told(row + "\nlaid a"), 1, row)
@@ -114,7 +117,8 @@ class Reading(unittest.TestCase):
     def test_a_blank_more_in_each_row(self):
         rows = WHOLE.split("\n")
         for place, row in enumerate(rows):
-            for wrong in (" " + row, row + " ", row.replace(" ", "  ", 1), row.replace(" ", "\t", 1), row + "\t", row + ";"):
+            for wrong in (" " + row, row + " ", row.replace(" ", "  ", 1), row.replace(" ", "\t", 1), row + "\t",
+                          row + ";"):
                 self.assertEqual(self.told("\n".join(rows[:place] + [wrong] + rows[place + 1:])), place + 1, wrong)
 
     def test_each_row_left_out_twice_or_turned(self):
@@ -142,7 +146,8 @@ class Reading(unittest.TestCase):
                 self.assertEqual(self.told("\n".join(rows[:place] + [row + " " + more])), place + 1)
 
     def test_rows_of_no_part(self):
-        for row in ("x", "steps 0.0.0 0.0.1", "step", "at", "hill", "spot", "cut", "laid", "paper", "never", "Laid z", "note x",
+        for row in ("x", "steps 0.0.0 0.0.1", "step", "at", "hill", "spot", "cut", "laid", "paper", "never", "Laid z",
+                    "note x",
                     "; remark", "step 0.0.0 0.0.1 0.0.2"):
             for text in ("answer open", "answer open\nlaid a", WHOLE):
                 self.assertEqual(self.told(text + "\n" + row), len(text.split("\n")) + 1, row)
@@ -164,14 +169,16 @@ class Reading(unittest.TestCase):
                     self.assertEqual(self.told(f"answer open\n{never}\n{row}"), None if row in own[head] else 3)
 
     def test_rows_of_a_part_that_is_over(self):
-        cases = [("paper a tree 1", "hill 3", "step 0.0.0 0.0.1"), ("paper a bundle 1 1", "at 0.0.0 0 0", "step 0.0.0 0.0.1"),
+        cases = [("paper a tree 1", "hill 3", "step 0.0.0 0.0.1"),
+                 ("paper a bundle 1 1", "at 0.0.0 0 0", "step 0.0.0 0.0.1"),
                  ("paper a cut", "spot 0.0.0", "cut 0.0.0"), ("paper a tree 1", "hill 3", "at 0.0.0 0 0"),
                  ("paper a bundle 1 1", "step 0.0.0 0.0.1", "at 0.0.0 0")]
         for head, first, row in cases:
             self.assertEqual(self.told(f"answer open\n{head}\n{first}\n{row}"), 4, (head, row))
 
     def test_kinds(self):
-        for kind in ("tree", "tree x", "tree 1 2", "tree 01", "tree -0", "bundle", "bundle 1", "bundle 1 2 3", "bundle 1 x", "shore 1",
+        for kind in ("tree", "tree x", "tree 1 2", "tree 01", "tree -0", "bundle", "bundle 1", "bundle 1 2 3",
+                     "bundle 1 x", "shore 1",
                      "cut 1", "cuts", "Tree 1", "net 1", "", "tree 1.0", "shore ", "tree " + "1" * 19, "plain"):
             for part in ("paper", "never"):
                 self.assertEqual(self.told(f"answer open\n{part} a {kind}"), 2, kind)
@@ -188,7 +195,8 @@ class Reading(unittest.TestCase):
 
     def test_names_out_of_order(self):
         for part, kind in (("laid", ""), ("paper", " shore"), ("never", " cut")):
-            for one, two, good in (("a", "b", True), ("b", "a", False), ("a", "a", False), ("a", "ab", True), ("ab", "a", False),
+            for one, two, good in (("a", "b", True), ("b", "a", False), ("a", "a", False), ("a", "ab", True),
+                                   ("ab", "a", False),
                                    ("b10", "b9", True), ("b9", "b10", False), ("a0", "aa", True)):
                 text = f"answer open\n{part} {one}{kind}\n{part} {two}{kind}"
                 self.assertEqual(self.told(text), None if good else 3, text)
@@ -226,7 +234,8 @@ class Reading(unittest.TestCase):
 
     def test_spots(self):
         for word in ("0.0", "0.0.0.0", "-1.0.0", "0.0.00", "x", "0,0,0", "0.0." + "1" * 19, ".0.0"):
-            for head, row in (("laid a", f"step {word} 0.0.0"), ("laid a", f"step 0.0.0 {word}"), ("paper a shore", f"spot {word}"),
+            for head, row in (("laid a", f"step {word} 0.0.0"), ("laid a", f"step 0.0.0 {word}"),
+                              ("paper a shore", f"spot {word}"),
                               ("paper a cut", f"cut {word}"), ("paper a cut", f"spot {word}"),
                               ("paper a bundle 1 1", f"at {word} 1 1")):
                 self.assertEqual(self.told(f"answer open\n{head}\n{row}"), 3, row)
@@ -246,13 +255,15 @@ class Reading(unittest.TestCase):
             text = list(answer_text(some_answer(chance)))
             for _ in range(chance.randint(1, 2)):
                 place = chance.randrange(len(text) + 1)
-                text[place:place + chance.choice([0, 1])] = chance.choice(["", " ", "\n", "0", "1", ".", "-", "a", "z", "\t"])
+                text[place:place + chance.choice([0, 1])] = chance.choice(["", " ", "\n", "0", "1", ".", "-", "a", "z",
+                                                                           "\t"])
             faults += self.told("".join(text)) is not None
         self.assertGreater(faults, 300)
 
     def test_rows_by_chance(self):
         chance = random.Random(34)
-        rows = WHOLE.split("\n")[1:] + ["laid c", "paper e tree 1", "hill 1", "at 0.0.0 0", "at 0.0.2 0 0", "never z shore"]
+        rows = WHOLE.split("\n")[1:] + ["laid c", "paper e tree 1", "hill 1", "at 0.0.0 0", "at 0.0.2 0 0",
+                                        "never z shore"]
         for _ in range(600):
             picked = [chance.choice(rows) for _ in range(chance.randint(1, 6))]
             self.told("\n".join(["answer rested"] + picked))

@@ -71,7 +71,8 @@ class Papers(unittest.TestCase):
         self.assertEqual(self.told(ShorePaper([])), ("shore", []))
 
     def test_cuts(self):
-        self.assertEqual(self.told(CutPaper([C, A], [B, B])), ("cut", ["cut 0.10.2", "cut 0.0.0", "spot 0.0.1", "spot 0.0.1"]))
+        self.assertEqual(self.told(CutPaper([C, A], [B, B])),
+                         ("cut", ["cut 0.10.2", "cut 0.0.0", "spot 0.0.1", "spot 0.0.1"]))
         self.assertEqual(self.told(CutPaper([], [B])), ("cut", ["spot 0.0.1"]))
         self.assertEqual(self.told(CutPaper([B], [])), ("cut", ["cut 0.0.1"]))
         self.assertEqual(self.told(paper=CutPaper([], [])), ("cut", []))

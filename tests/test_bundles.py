@@ -194,8 +194,9 @@ class BundlePapers(unittest.TestCase):
     def test_steps_over_spots_that_are_not_free(self):
         for spot in {spot for step in self.wires for spot in step}:
             free = free_of([one for one in self.free if one != spot])
+            heights = dict((one, self.heights[one]) for one in self.heights if one != spot)
             self.assertFalse(self.told(free=free))
-            self.assertFalse(self.told(free=free, heights=dict((one, self.heights[one]) for one in self.heights if one != spot)))
+            self.assertFalse(self.told(free=free, heights=heights))
 
     def test_an_end_that_is_not_free_and_in_no_heights(self):
         floor, bundle = Floor((1, 1, 3), [(10, 10)], []), Bundle("b", [(0, 0, 0)], [(0, 0, 2)])
@@ -390,7 +391,8 @@ class CutPapers(unittest.TestCase):
         bundle = Bundle("b", [(0, 0, 0), (0, 1, 0)], [(0, 0, 1), (0, 1, 2)])
         few = free_of([(0, 0, 0), (0, 1, 0), (0, 0, 1), (0, 1, 2)])
         self.assertTrue(self.told(cut=[(0, 0, 1)], spots=[(0, 0, 0), (0, 1, 0)], thing=bundle, free=few, floor=floor))
-        self.assertFalse(self.told(cut=[], spots=[(0, 0, 0), (0, 0, 1), (0, 1, 0)], thing=bundle, free=few, floor=floor))
+        self.assertFalse(self.told(cut=[], spots=[(0, 0, 0), (0, 0, 1), (0, 1, 0)], thing=bundle, free=few,
+                                   floor=floor))
 
     def test_steps_that_lead_out(self):
         for spot in self.cut:

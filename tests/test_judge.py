@@ -28,7 +28,9 @@ def slow_judged(board, answer):
         if name in answer.layout:
             if paper is None:
                 told += [("bare", name)] if answer.rested else []
-            elif not (paper.is_laid() and paper.wires == answer.layout[name] and holds(board, answer.layout, thing, paper)):
+            elif not paper.is_laid() or paper.wires != answer.layout[name]:
+                told.append(("paper", name))
+            elif not holds(board, answer.layout, thing, paper):
                 told.append(("paper", name))
             continue
         if paper is None:
@@ -56,14 +58,16 @@ class Judging(unittest.TestCase):
         rocks = [(0, 5, 0), (0, 5, 1), (0, 6, 1)]
         floor = Floor((1, 7, 7), [(1, 1)], [], rocks)
         self.board = Board(floor, [Net("z", [(0, 0, 3), (0, 4, 3)]), Net("c", [(0, 1, 0), (0, 1, 5)]),
-                                   Net("shut", [(0, 6, 0), (0, 6, 3)]), Bundle("b", [(0, 6, 6)], [(0, 5, 6), (0, 0, 6)])])
+                                   Net("shut", [(0, 6, 0), (0, 6, 3)]),
+                                   Bundle("b", [(0, 6, 6)], [(0, 5, 6), (0, 0, 6)])])
         self.answer = answer_of(self.board)
         self.assertEqual(sorted(self.answer.layout), ["b", "c", "z"])
         self.assertEqual(sorted(self.answer.nevers), ["shut"])
 
     def told(self, **changes):
         """What judging tells, of the good answer with some parts of it otherwise."""
-        kept = dict(rested=self.answer.rested, layout=self.answer.layout, papers=self.answer.papers, nevers=self.answer.nevers)
+        kept = dict(rested=self.answer.rested, layout=self.answer.layout, papers=self.answer.papers,
+                    nevers=self.answer.nevers)
         answer = Answer(**{**kept, **changes})
         told = judged(self.board, answer)
         self.assertIsInstance(told, list)
@@ -169,7 +173,8 @@ class Judging(unittest.TestCase):
         both = self.told(papers={**papers, "q": papers["z"]}, nevers={**nevers, "q": ShorePaper([])})
         self.assertEqual(both, [("stranger", "q")])
         self.assertEqual(self.told(nevers={**nevers, "z": ShorePaper([])}), [("stranger", "z")])
-        told = self.told(papers={**papers, "qq": papers["z"], "a": papers["z"]}, nevers={**nevers, "q": papers["z"], "b": papers["b"]})
+        told = self.told(papers={**papers, "qq": papers["z"], "a": papers["z"]},
+                         nevers={**nevers, "q": papers["z"], "b": papers["b"]})
         self.assertEqual(told, [("stranger", "a"), ("stranger", "b"), ("stranger", "q"), ("stranger", "qq")])
 
     def test_a_stranger_that_is_laid(self):
@@ -179,7 +184,8 @@ class Judging(unittest.TestCase):
 
     def test_rested_turned_round(self):
         self.assertEqual(self.told(rested=not self.answer.rested), [])
-        self.assertEqual(self.told(rested=True, papers=self.without(self.answer.papers, "b", "c")), [("bare", "c"), ("bare", "b")])
+        self.assertEqual(self.told(rested=True, papers=self.without(self.answer.papers, "b", "c")),
+                         [("bare", "c"), ("bare", "b")])
 
     def test_several_at_once_in_their_order(self):
         papers = self.answer.papers
@@ -188,7 +194,8 @@ class Judging(unittest.TestCase):
         told = self.told(layout=layout, papers={"c": papers["z"], "b": papers["b"], "y": papers["b"]},
                          nevers={"shut": ShorePaper([]), "c": ShorePaper([])})
         self.assertEqual(told, [("stranger", "x"), ("shape", "b"), ("near", "z", "c"), ("bare", "z"), ("paper", "c"),
-                                ("bare", "shut"), ("never", "shut"), ("paper", "b"), ("stranger", "c"), ("stranger", "y")])
+                                ("bare", "shut"), ("never", "shut"), ("paper", "b"), ("stranger", "c"),
+                                ("stranger", "y")])
 
     def test_layouts_with_spots_outside(self):
         far = [((0, -1, 0), (0, 99, 99)), ((9, 9, 9), (10 ** 17, 0, 0))]
@@ -226,7 +233,8 @@ class ByTheWords(unittest.TestCase):
         chance = random.Random(35)
         seen = {}
         for _ in range(60):
-            board = tight_board(chance) if chance.random() < 0.7 else random_board(chance, random_floor(chance, (2, 5, 6)), 5)
+            wide = random_board(chance, random_floor(chance, (2, 5, 6)), 5)
+            board = tight_board(chance) if chance.random() < 0.7 else wide
             answer = answer_of(board, chance.choice([0, 1, 40]))
             self.assertEqual(judged(board, answer), [])
             for _ in range(4):

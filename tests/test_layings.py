@@ -3,8 +3,8 @@
 import random
 import unittest
 
-from tests.helpers import (line, paper_told, plain_floor, random_board, random_floor, slow_clash, slow_free, slow_others,
-                           tight_board)
+from tests.helpers import (line, paper_told, plain_floor, random_board, random_floor, slow_clash, slow_free,
+                           slow_others, tight_board)
 from wirefloor.board import Board
 from wirefloor.bundles import BundlePaper, CutPaper, bundled
 from wirefloor.floor import Floor
@@ -86,7 +86,8 @@ class Papers(unittest.TestCase):
         chance = random.Random(26)
         kinds = set()
         for _ in range(30):
-            board = tight_board(chance) if chance.random() < 0.5 else random_board(chance, random_floor(chance, (2, 6, 6)), 5)
+            wide = random_board(chance, random_floor(chance, (2, 6, 6)), 5)
+            board = tight_board(chance) if chance.random() < 0.5 else wide
             layout = settle(board, 0).layout
             for thing in board.things():
                 for gone in ([], [thing.name], [other.name for other in board.things()][:2]):
@@ -109,7 +110,8 @@ class Tries(unittest.TestCase):
         told = tried(board, layout, name)
         self.assertEqual(layout, kept)
         wiring, torn, again, failed, paper = slow_try(board, layout, name)
-        self.assertEqual((told.name, told.wiring, told.torn, told.again, told.failed), (name, wiring, torn, again, failed))
+        self.assertEqual((told.name, told.wiring, told.torn, told.again, told.failed),
+                         (name, wiring, torn, again, failed))
         self.assertIs(told.worked(), failed is None)
         if failed is None:
             self.assertIsNone(told.paper)

@@ -111,7 +111,8 @@ class Faults(unittest.TestCase):
 
     def test_all_at_once(self):
         edge = [((0, 6, 2), (0, 7, 2)), ((0, 7, 2), (0, 8, 2)), ((0, 8, 2), (0, 8, 3)), ((0, 8, 3), (0, 7, 3))]
-        layout = {"zz": [], "k": line(0, 0, 3), "a": line(6, 0, 1), "b": edge + [((0, 7, 3), (0, 6, 3))] + line(6, 3, 6)}
+        layout = {"zz": [], "k": line(0, 0, 3), "a": line(6, 0, 1),
+                  "b": edge + [((0, 7, 3), (0, 6, 3))] + line(6, 3, 6)}
         layout["aa"] = line(1, 2, 6)
         self.assertEqual(self.told(layout), [("stranger", "aa"), ("stranger", "zz"), ("rock", "b"), ("shape", "k"),
                                              ("shape", "a"), ("near", "m", "k"), ("near", "b", "a")])

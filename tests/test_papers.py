@@ -80,7 +80,8 @@ class Shores(unittest.TestCase):
             self.assertFalse(self.told([other for other in self.spots if other != spot]))
 
     def test_one_put_in(self):
-        for spot in ((0, 1, 0), (0, 1, 1), (0, 1, 3), (0, 2, 1), (-1, 0, 0), (0, 0, 4), (0, 3, 0), (1, 0, 0), (0, 0, -1), (9, 9, 9)):
+        for spot in ((0, 1, 0), (0, 1, 1), (0, 1, 3), (0, 2, 1), (-1, 0, 0), (0, 0, 4), (0, 3, 0), (1, 0, 0),
+                     (0, 0, -1), (9, 9, 9)):
             self.assertFalse(self.told(sorted(self.spots + [spot])), spot)
 
     def test_two_exchanged(self):

@@ -112,7 +112,8 @@ class Links(unittest.TestCase):
         chance = random.Random(14)
         for _ in range(200):
             many = chance.randint(1, 7)
-            links = [(chance.randint(0, 4), chance.randrange(many), chance.randrange(many)) for _ in range(chance.randint(0, 14))]
+            links = [(chance.randint(0, 4), chance.randrange(many),
+                      chance.randrange(many)) for _ in range(chance.randint(0, 14))]
             kept = list(links)
             self.assertEqual(taken(links=links, many=many), slow_taken(links, many))
             self.assertEqual(links, kept)

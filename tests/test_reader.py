@@ -136,16 +136,22 @@ class BadRows(unittest.TestCase):
 
     def test_every_kind_badly_written(self):
         bad = [
-            "floor", "layer", "layer 1", "layer 1 2 3", "layer 1 x", "layer x 1", "layer 01 1", "layer 1 -1", "layer 1.0 1",
+            "floor", "layer", "layer 1", "layer 1 2 3", "layer 1 x", "layer x 1", "layer 01 1", "layer 1 -1",
+            "layer 1.0 1",
             "layer " + "1" * 19 + " 1", "via", "via 1 2", "via x", "via -1", "via 00", "via 0.0.0", "rock", "rock 0.0",
             "rock 1", "rock 0.0.0 0.0.1 0.0.2", "rock 0.0.0 x", "rock x 0.0.0", "rock 0.0.0 1", "rock 0.0.0.0",
             "rock 0.0.0,0.0.1", "toll", "toll 1", "toll 0.0.0", "toll x 0.0.0", "toll 1 x", "toll 1 0.0.0 0.0.1 0.0.2",
-            "toll 1 0.0.0 2", "toll 1 2 0.0.0", "toll -1 0.0.0", "toll 1 0.0", "net", "net a", "net a 0", "net a 0 x 0.0.0",
-            "net a x 0 0.0.0", "net a 0 0 x", "net a 0 0 0.0.0 x 0.0.1", "net a 0 0 0.0.0 0.0.1 to", "net a 0 0.0.0 0.0.1",
-            "net 0 0 0.0.0 0.0.1", "net a 0 -1 0.0.0 0.0.1", "net a 0 0 0.0.0 0.0.1 2", "bundle", "bundle b", "bundle b 0",
-            "bundle b to", "bundle b 0 0.0.0 0.0.1", "bundle b 0 0.0.0 to 0.0.1 to 0.0.2", "bundle b 0 to to", "bundle to",
+            "toll 1 0.0.0 2", "toll 1 2 0.0.0", "toll -1 0.0.0", "toll 1 0.0", "net", "net a", "net a 0",
+            "net a 0 x 0.0.0",
+            "net a x 0 0.0.0", "net a 0 0 x", "net a 0 0 0.0.0 x 0.0.1", "net a 0 0 0.0.0 0.0.1 to",
+            "net a 0 0.0.0 0.0.1",
+            "net 0 0 0.0.0 0.0.1", "net a 0 -1 0.0.0 0.0.1", "net a 0 0 0.0.0 0.0.1 2", "bundle", "bundle b",
+            "bundle b 0",
+            "bundle b to", "bundle b 0 0.0.0 0.0.1", "bundle b 0 0.0.0 to 0.0.1 to 0.0.2", "bundle b 0 to to",
+            "bundle to",
             "bundle b x to 0.0.0", "bundle b 0 x to 0.0.0", "bundle b 0 0.0.0 to x", "bundle b 0 0.0.0 to 0.0.1 x",
-            "bundle b 0 0 0.0.0 to 0.0.1", "bundle b 0 0.0.0 TO 0.0.1", "bundle to 0 0.0.0 0.0.1", "bundle b 0.0.0 to 0.0.1",
+            "bundle b 0 0 0.0.0 to 0.0.1", "bundle b 0 0.0.0 TO 0.0.1", "bundle to 0 0.0.0 0.0.1",
+            "bundle b 0.0.0 to 0.0.1",
             "bundle to to 0.0.0", "bundle 0 0.0.0 to 0.0.1", "Net a 0 0 0.0.0 0.0.1", "nets a 0 0 0.0.0 0.0.1",
             "ROCK 0.0.0", "a", "0", "0.0.0", "to", "rock\t0.0.0", "rocks 0.0.0", "remark", "# x", "floor 1 1 1", "-",
         ]
@@ -154,7 +160,8 @@ class BadRows(unittest.TestCase):
             self.assertEqual(bad_row(HEAD + "\n ; x\n" + row + " ; y\nxx"), 7, row)
 
     def test_the_floor_row_badly_written(self):
-        for row in ("floor", "floor 1", "floor 1 1", "floor 1 1 1 1", "floor 1 1 x", "floor x 1 1", "floor 1 01 1", "floor 1.1.1",
+        for row in ("floor", "floor 1", "floor 1 1", "floor 1 1 1 1", "floor 1 1 x", "floor x 1 1", "floor 1 01 1",
+                    "floor 1.1.1",
                     "floor -1 1 1", "floor 1 1 " + "1" * 19, "Floor 1 1 1", "floors 1 1 1", "floor\t1 1 1"):
             self.assertEqual(bad_row(row + "\nlayer 1 1"), 1, row)
             self.assertEqual(bad_row(";\n\n" + row + "\nlayer 1 1"), 3, row)
@@ -167,7 +174,8 @@ class BadRows(unittest.TestCase):
     def test_a_bad_row_goes_ahead_of_all_else(self):
         for row in ("floor 9 9 9", "floor 0 1 1"):
             self.assertEqual(bad_row(row + "\nlayer 0 0\nx"), 3)
-        wrong = ["layer 0 0", "via 0", "rock 9.9.9", "toll 9999999999999 0.0.0", "net A 9 9", "bundle b 9 to", "net a 0 0 9.9.9"]
+        wrong = ["layer 0 0", "via 0", "rock 9.9.9", "toll 9999999999999 0.0.0", "net A 9 9", "bundle b 9 to",
+                 "net a 0 0 9.9.9"]
         for row in wrong:
             self.assertEqual(bad_row(HEAD + row + "\nx"), 6, row)
 
@@ -186,7 +194,8 @@ class OtherRefusals(unittest.TestCase):
     # Rows that make a page wrong, in the order in which it is refused for them.
     RANKS = [
         (BadSize, ["layer 9 9", "via 9"]),
-        (BadPrice, ["toll 1000000000001 0.0.0", "toll 1000000000001 0.0.0\ntoll 1 0.0.0", "toll 999999999999999999 7.7.7"]),
+        (BadPrice, ["toll 1000000000001 0.0.0", "toll 1000000000001 0.0.0\ntoll 1 0.0.0",
+                    "toll 999999999999999999 7.7.7"]),
         (OutOfFloor, ["rock 0.0.5", "rock 0.4.0 0.0.0", "toll 1 2.0.0", "toll 1 0.0.0 0.0.5",
                       "rock 0.0.0 999999999999999999.999999999999999999.999999999999999999"]),
         (BadThing, ["net a 0 0", "net B 0 0 0.0.0 0.0.1", "net b 3 0 0.0.0 0.0.1", "bundle c 4 0.0.0 to 0.0.1",

@@ -160,7 +160,8 @@ class Free(unittest.TestCase):
     def test_beside_one(self):
         floor = plain_floor((2, 1, 8))
         told = free_for(floor, net(room=1), [(net("o", 0, 2), [(0, 0, 7), (1, 0, 0)])])
-        self.assertEqual(list(told), [(0, 0, column) for column in range(5)] + [(1, 0, column) for column in range(3, 8)])
+        self.assertEqual(list(told), [(0, 0, column) for column in range(5)] + [(1, 0, column) for column in range(3,
+                                                                                                                   8)])
 
     def test_beside_spots_outside(self):
         floor = plain_floor((2, 4, 4))

@@ -79,7 +79,8 @@ class Runs(unittest.TestCase):
 
     def test_single_spots(self):
         self.assertEqual(self.told({(0, 0, 0): True}), [((0, 0, 0), (0, 0, 0), True)])
-        self.assertEqual(self.told({(0, 0, 2): 5, (0, 0, 0): 5}), [((0, 0, 0), (0, 0, 0), 5), ((0, 0, 2), (0, 0, 2), 5)])
+        self.assertEqual(self.told({(0, 0, 2): 5, (0, 0, 0): 5}),
+                         [((0, 0, 0), (0, 0, 0), 5), ((0, 0, 2), (0, 0, 2), 5)])
 
     def test_ended_by_an_unmarked_spot(self):
         marks = dict(((0, 0, column), True) for column in (5, 4, 1, 2, 0))

@@ -4,7 +4,8 @@ import inspect
 import random
 import unittest
 
-from tests.helpers import line, paper_told, random_board, random_floor, slow_free, slow_others, tight_board
+from tests.helpers import (TWO_BETTERS, line, paper_told, random_board, random_floor, slow_free, slow_others,
+                           tight_board)
 from wirefloor.board import Board
 from wirefloor.bundles import BundlePaper, CutPaper
 from wirefloor.deeds import Better, Lay, Swap
@@ -16,21 +17,6 @@ from wirefloor.reader import read_board
 from wirefloor.settle import Settled, settle
 from wirefloor.things import Bundle, Net
 from wirefloor.trees import TreePaper
-
-# A swap leaves two things here that can be bettered.
-TWO_BETTERS = """
-floor 2 7 6
-layer 2 1
-layer 3 1
-via 3
-rock 0.2.3
-toll 2 0.0.2
-bundle t0 0 1.1.5 0.2.4 to 0.1.1 0.4.4
-bundle t2 0 1.0.1 to 0.2.2 1.4.2
-bundle t4 0 1.6.3 1.2.1 to 0.2.1 0.4.0
-net t5 0 0 0.1.3 1.5.3 1.4.3
-net t9 0 0 1.3.3 1.0.2
-"""
 
 # One that can be bettered, and two that are left out, though alone they could be laid.
 LEFT_OUT = """
@@ -108,7 +94,8 @@ class Settling(unittest.TestCase):
         if thing.name in settled.nevers:
             never = settled.nevers[thing.name]
             self.assertEqual(paper_told(never), paper_told(alone))
-            self.assertTrue(never.holds(board.floor, slow_free(board.floor, thing, slow_others(board, {}, thing.name)), thing))
+            self.assertTrue(never.holds(board.floor, slow_free(board.floor, thing, slow_others(board, {}, thing.name)),
+                                        thing))
         else:
             kept, attempt = settled.tries[thing.name], tried(board, settled.layout, thing.name)
             self.assertFalse(kept.worked())
@@ -158,7 +145,8 @@ class Settling(unittest.TestCase):
         self.assertTrue(settled.rested)
 
     def test_one_of_two(self):
-        board = Board(Floor((1, 3, 3), [(1, 1)], []), [Net("a", [(0, 1, 0), (0, 1, 2)]), Net("c", [(0, 0, 1), (0, 2, 1)])])
+        board = Board(Floor((1, 3, 3), [(1, 1)], []), [Net("a", [(0, 1, 0), (0, 1, 2)]),
+                                                       Net("c", [(0, 0, 1), (0, 2, 1)])])
         settled = self.told(board)
         self.assertEqual(len(settled.layout), 1)
         self.assertEqual(len(settled.tries), 1)

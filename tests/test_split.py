@@ -105,7 +105,8 @@ class Arcs(unittest.TestCase):
         arcs = arcs_in(floor, dict((spot, True) for spot in spots_in((1, 2, 3))))
         told = split_arcs(arcs, comes_of([[(0, 0, 0), (0, 0, 1), (0, 0, 2)]]))
         self.assertEqual(told((0, 0, 1, 0)), [((0, 0, 0, 1), -15)])
-        self.assertEqual(told((0, 0, 1, 1)), [((0, 0, 0, 0), 15), ((0, 0, 2, 0), 15), ((0, 1, 1, 0), 18), ((0, 0, 1, 0), 0)])
+        self.assertEqual(told((0, 0, 1, 1)), [((0, 0, 0, 0), 15), ((0, 0, 2, 0), 15), ((0, 1, 1, 0), 18),
+                                              ((0, 0, 1, 0), 0)])
         self.assertEqual(told((0, 1, 1, 0)), [((0, 1, 1, 1), 0)])
 
 

@@ -249,7 +249,8 @@ class Papers(unittest.TestCase):
     def test_steps_over_spots_that_are_not_free(self):
         for spot in [(0, 0, column) for column in range(6)]:
             free = free_of([one for one in self.free if one != spot])
-            hills = [(top, dict((one, high) for one, high in heights.items() if one != spot)) for top, heights in self.hills]
+            hills = [(top, dict((one, high) for one, high in heights.items() if one != spot)) for top,
+                     heights in self.hills]
             self.assertFalse(self.told(free=free, hills=hills), spot)
             self.assertFalse(self.told(free=free), spot)
 
@@ -260,7 +261,8 @@ class Papers(unittest.TestCase):
         for pin, other in (net.pins, net.pins[::-1]):
             hill = (40, {pin: 0, (0, 0, 1): 20})
             self.assertTrue(self.told(wires, 20, [hill], net, free_of(spots), floor))
-            self.assertFalse(self.told(wires, 20, [hill], net, free_of([spot for spot in spots if spot != other]), floor))
+            self.assertFalse(self.told(wires, 20, [hill], net, free_of([spot for spot in spots if spot != other]),
+                                       floor))
 
     def test_the_price(self):
         for price in (self.price - 1, self.price + 1, 0, -self.price):

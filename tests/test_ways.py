@@ -158,7 +158,8 @@ class Cheapest(unittest.TestCase):
         self.assertEqual(told[1], [(0, 0, 1), (0, 0, 2)])
 
     def test_great_prices(self):
-        floor = Floor((2, 3, 3), [(MOST, MOST - 1), (1, MOST)], [MOST], [], dict((spot, MOST) for spot in spots_in((2, 3, 3))))
+        floor = Floor((2, 3, 3), [(MOST, MOST - 1), (1, MOST)], [MOST], [],
+                      dict((spot, MOST) for spot in spots_in((2, 3, 3))))
         self.told(floor, free_of(spots_in((2, 3, 3))), [(0, 0, 0)], [(0, 2, 2)])
 
     def test_the_greatest_floor(self):

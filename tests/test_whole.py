@@ -4,7 +4,7 @@ import inspect
 import random
 import unittest
 
-from tests.helpers import MOST, random_board, random_floor, refused_by, spots_in, tight_board
+from tests.helpers import MOST, TWO_BETTERS, random_board, random_floor, refused_by, spots_in, tight_board
 from wirefloor.answer_reader import read_answer
 from wirefloor.answers import Answer, answer_text
 from wirefloor.errors import BadAnswer, BadPrice, BadRow, BadSize, BadThing, Crowded, NoFit, OutOfFloor, Twice
@@ -29,7 +29,8 @@ hill 2
 at 0.0.2 0"""
 
 REFUSED = [
-    ("", BadRow), ("x", BadRow), ("floor 1 1 1\nlayer 1", BadRow), ("floor 1 1 1", BadSize), ("floor 1 1 17\nlayer 1 1", BadSize),
+    ("", BadRow), ("x", BadRow), ("floor 1 1 1\nlayer 1", BadRow), ("floor 1 1 1", BadSize),
+    ("floor 1 1 17\nlayer 1 1", BadSize),
     ("floor 1 1 1\nlayer 0 1", BadPrice), ("floor 1 1 1\nlayer 1 1\nrock 0.0.1", OutOfFloor),
     ("floor 1 1 2\nlayer 1 1\nnet A 0 0 0.0.0 0.0.1", BadThing),
     ("floor 1 1 4\nlayer 1 1\nnet a 0 0 0.0.0 0.0.1\nnet a 0 0 0.0.2 0.0.3", Twice),
@@ -73,7 +74,8 @@ class Answering(unittest.TestCase):
         self.assertEqual(refused_by(looked, "\n\nx", "").row, 3)
 
     def test_answers_that_are_refused(self):
-        for text, row in (("", 1), ("x", 1), ("answer", 1), (ANSWER + "\n", 12), (ANSWER + " ", 11), ("answer open\nlaid A", 2)):
+        for text, row in (("", 1), ("x", 1), ("answer", 1), (ANSWER + "\n", 12), (ANSWER + " ", 11),
+                          ("answer open\nlaid A", 2)):
             error = refused_by(looked, PAGE, text)
             self.assertEqual((class_of(error), error.row), (BadAnswer, row), text)
 
@@ -116,20 +118,7 @@ class Good(unittest.TestCase):
         self.assertGreater(rested[True], 40)
 
     def test_boards_that_are_left_open(self):
-        page = """
-            floor 2 7 6
-            layer 2 1
-            layer 3 1
-            via 3
-            rock 0.2.3
-            toll 2 0.0.2
-            bundle t0 0 1.1.5 0.2.4 to 0.1.1 0.4.4
-            bundle t2 0 1.0.1 to 0.2.2 1.4.2
-            bundle t4 0 1.6.3 1.2.1 to 0.2.1 0.4.0
-            net t5 0 0 0.1.3 1.5.3 1.4.3
-            net t9 0 0 1.3.3 1.0.2
-        """
-        self.assertEqual([self.check(page, most).rested for most in (0, 1, 2, None)], [False, False, True, True])
+        self.assertEqual([self.check(TWO_BETTERS, most).rested for most in (0, 1, 2, None)], [False, False, True, True])
 
     def test_wide_things_and_rooms(self):
         chance = random.Random(38)
@@ -149,5 +138,6 @@ class Good(unittest.TestCase):
     def test_twelve_things(self):
         rows = ["floor 2 16 16", "layer 1 2", "layer 2 1", "via 1"]
         rows += [f"net n{place} 0 0 0.{place}.0 0.{15 - place}.15" for place in range(6)]
-        rows += [f"bundle b{place} 0 1.0.{place} 1.0.{place + 8} to 1.15.{place} 1.15.{15 - place}" for place in range(6)]
+        rows += [f"bundle b{place} 0 1.0.{place} 1.0.{place + 8} to 1.15.{place} 1.15.{15 - place}"
+                 for place in range(6)]
         self.check("\n".join(rows))

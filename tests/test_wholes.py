@@ -29,7 +29,8 @@ class Wholes(unittest.TestCase):
             self.assertIsNone(whole_in(word), word)
 
     def test_other_texts(self):
-        for word in ("", "-", "--", "--1", "+1", "+", "-+1", "+-1", "1-", "1-1", " 1", "1 ", "- 1", "-1 ", " -1", "1.0", "1_0",
+        for word in ("", "-", "--", "--1", "+1", "+", "-+1", "+-1", "1-", "1-1", " 1", "1 ", "- 1", "-1 ", " -1", "1.0",
+                     "1_0",
                      "a", "-a", "1e2", "0x1", "one", "1\n", "-1\n", "\t1", "-.1", "1,000", "~1"):
             self.assertIsNone(whole_in(word), word)
 

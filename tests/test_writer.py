@@ -20,7 +20,8 @@ def told(thing):
 class ThingRows(unittest.TestCase):
     def test_nets(self):
         self.assertEqual(thing_row(Net("a", [(0, 0, 1), (0, 0, 0)])), "net a 0 0 0.0.1 0.0.0")
-        self.assertEqual(thing_row(Net("n12", [(1, 2, 3), (0, 15, 10), (3, 0, 0)], 2, 3)), "net n12 2 3 1.2.3 0.15.10 3.0.0")
+        self.assertEqual(thing_row(Net("n12", [(1, 2, 3), (0, 15, 10), (3, 0, 0)], 2, 3)),
+                         "net n12 2 3 1.2.3 0.15.10 3.0.0")
         self.assertEqual(thing_row(thing=Net("to", [(0, 0, 1), (0, 0, 0)], 1)), "net to 1 0 0.0.1 0.0.0")
 
     def test_bundles(self):
@@ -50,7 +51,8 @@ class Written(unittest.TestCase):
 
     def test_all_kinds_of_rows_in_their_order(self):
         rocks = [(1, 0, 2), (0, 3, 3), (0, 0, 1), (0, 0, 0), (1, 0, 3)]
-        tolls = {(1, 1, 1): 5, (0, 2, 0): 7, (0, 2, 1): 7, (0, 2, 2): 8, (0, 2, 3): 0, (0, 1, 3): 7, (0, 3, 3): 1, (0, 0, 0): 2}
+        tolls = {(1, 1, 1): 5, (0, 2, 0): 7, (0, 2, 1): 7, (0, 2, 2): 8, (0, 2, 3): 0, (0, 1, 3): 7, (0, 3, 3): 1,
+                 (0, 0, 0): 2}
         floor = Floor((2, 4, 4), [(1, 2), (3, 4)], [5], rocks, tolls)
         things = [Net("z", [(0, 1, 0), (0, 1, 1)], 0, 0), Bundle("a", [(1, 2, 0)], [(1, 3, 0), (1, 3, 1)], 1),
                   Net("b", [(0, 3, 0), (0, 3, 1)])]
@@ -70,13 +72,15 @@ class Written(unittest.TestCase):
 
     def test_the_greatest_size(self):
         sizes = (4, 16, 16)
-        whole = Board(Floor(sizes, [(MOST, 1)] * 4, [1, MOST, 2], spots_in(sizes), dict((spot, MOST) for spot in spots_in(sizes))), [])
+        whole = Board(Floor(sizes, [(MOST, 1)] * 4, [1, MOST, 2], spots_in(sizes),
+                            dict((spot, MOST) for spot in spots_in(sizes))), [])
         rows = self.same_again(whole)
         self.assertEqual(len(rows), 1 + 4 + 3 + 64 + 64)
         self.assertEqual(rows[8], "rock 0.0.0 0.0.15")
         self.assertEqual(rows[-1], f"toll {MOST} 3.15.0 3.15.15")
         chess = [spot for spot in spots_in(sizes) if sum(spot) % 2 == 0]
-        rows = self.same_again(Board(plain_floor(sizes, chess, dict((spot, 1 + sum(spot) % 2) for spot in spots_in(sizes))), []))
+        rows = self.same_again(Board(plain_floor(sizes, chess,
+                                                 dict((spot, 1 + sum(spot) % 2) for spot in spots_in(sizes))), []))
         self.assertEqual(len(rows), 8 + 512 + 1024)
 
     def test_tolls_of_nought_part_runs_and_are_not_written(self):

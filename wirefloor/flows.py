@@ -2,13 +2,12 @@
 
 from wirefloor.split import door, gate, rerouted, split_arcs, spot_of_mark
 from wirefloor.spread import spread, way_back
-from wirefloor.ways import arcs_in
+from wirefloor.ways import leads_in
 
 
 class Flow:
     def __init__(self, floor, free, starts, goals):
-        self.floor = floor
-        self.free = dict(free)
+        self.leads = leads_in(floor, free)
         self.starts = tuple(starts)
         self.goals = tuple(goals)
         self.comes = {}
@@ -18,12 +17,13 @@ class Flow:
         self.levels = dict([(gate(spot), 0) for spot in free] + [(door(spot), 0) for spot in free])
 
     def flooded(self):
+        leads = self.leads
         levels = self.levels
-        leads = split_arcs(arcs_in(self.floor, self.free), self.comes)
+        arcs = split_arcs(lambda spot: leads[spot], self.comes)
 
         def climbs_spared(mark):
             # Prices less climbs are from nought, as spreading asks for.
-            return [(other, price + levels[mark] - levels[other]) for other, price in leads(mark)]
+            return [(other, price + levels[mark] - levels[other]) for other, price in arcs(mark)]
 
         # The gates of starts are come to at nought each time, and so stay there.
         return spread(climbs_spared, [(gate(start), 0) for start in self.starts])

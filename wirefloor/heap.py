@@ -32,18 +32,15 @@ class Heap:
     def sink(self, pair):
         # The first place is open now: lesser children move up until the pair
         # may lie where the last of them was.
+        pairs = self.pairs
         place = 0
-        child = self.lesser_child(place)
-        while child is not None and self.pairs[child] < pair:
-            self.pairs[place] = self.pairs[child]
+        child = 1
+        while child < len(pairs):
+            if child + 1 < len(pairs) and pairs[child + 1] < pairs[child]:
+                child = child + 1
+            if pair <= pairs[child]:
+                break
+            pairs[place] = pairs[child]
             place = child
-            child = self.lesser_child(place)
-        self.pairs[place] = pair
-
-    def lesser_child(self, place):
-        child = 2 * place + 1
-        if child >= len(self.pairs):
-            return None
-        if child + 1 < len(self.pairs) and self.pairs[child + 1] < self.pairs[child]:
-            return child + 1
-        return child
+            child = 2 * place + 1
+        pairs[place] = pair

@@ -3,10 +3,15 @@
 from wirefloor.spread import spread, way_back
 
 
-def arcs_in(floor, free):
+def leads_in(floor, free):
     leads = {}
     for spot in free:
         leads[spot] = [(other, price) for other, price in floor.steps(spot) if other in free]
+    return leads
+
+
+def arcs_in(floor, free):
+    leads = leads_in(floor, free)
     return lambda spot: list(leads.get(spot, []))
 
 
