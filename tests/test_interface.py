@@ -30,7 +30,8 @@ split: gate(spot); door(spot); spot_of_mark(mark); split_arcs(arcs, comes); rero
 flows: Flow(floor, free, starts, goals); Flow.more(); Flow.many(); Flow.ways(); Flow.low(spot); Flow.high(spot)
 flows: Flow.cut_spots(); Flow.shore_spots()
 bundles: BundlePaper(wires, price, depth, heights); CutPaper(cut, spots); bundled(floor, free, bundle)
-deeds: Deed(name); Deed.done(layout); Deed.laid_anew(); Lay(name, wiring); Swap(name, wiring, others); Better(name, wiring)
+deeds: Deed(name); Deed.done(layout); Deed.laid_anew(); Lay(name, wiring); Swap(name, wiring, others)
+deeds: Better(name, wiring)
 layings: paper_of(board, layout, name); paper_alone(board, name); Try(name, wiring, torn, again, failed, paper)
 layings: Try.worked(); tried(board, layout, name)
 settle: Settled(layout, deeds, rested, papers, nevers, tries); settle(board, most=40)
@@ -86,8 +87,9 @@ class Interface(unittest.TestCase):
 
     def test_methods_of_those_under_others(self):
         methods = [("things", "Net", "sound"), ("things", "Bundle", "sound"), ("papers", "ShorePaper", "holds"),
-                   ("trees", "TreePaper", "holds"), ("bundles", "BundlePaper", "holds"), ("bundles", "CutPaper", "holds"),
-                   ("deeds", "Swap", "done"), ("deeds", "Lay", "done"), ("deeds", "Better", "laid_anew")]
+                   ("trees", "TreePaper", "holds"), ("bundles", "BundlePaper", "holds"),
+                   ("bundles", "CutPaper", "holds"), ("deeds", "Swap", "done"), ("deeds", "Lay", "done"),
+                   ("deeds", "Better", "laid_anew")]
         for module, name, method in methods:
             here = found(importlib.import_module(f"wirefloor.{module}"), name)
             above = here.__bases__[0]

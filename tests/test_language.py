@@ -170,6 +170,20 @@ class Forms(unittest.TestCase):
                     self.assertTrue(isinstance(side, ast.Constant) and side.value in (None, True, False), where)
 
 
+    def test_what_stands_by_itself_is_a_call_or_a_docstring(self):
+        for where, node, above in linked(ast.Expr):
+            if isinstance(node.value, ast.Constant):
+                self.assertIsInstance(above, ast.Module, where)
+                self.assertIs(above.body[0], node, where)
+            else:
+                self.assertIsInstance(node.value, ast.Call, where)
+
+    def test_classes_hold_methods_alone(self):
+        for where, node in nodes(ast.ClassDef):
+            self.assertLessEqual(len(node.bases), 1, where)
+            for part in node.body:
+                self.assertIsInstance(part, (ast.FunctionDef, ast.Pass), where)
+
     def test_texts_hold_plain_names(self):
         for where, node in nodes(ast.FormattedValue):
             self.assertIsInstance(node.value, ast.Name, where)
